@@ -1,0 +1,1 @@
+"""Sashiko: cloths sewn line by line, and what their seams close in."""
