@@ -1,16 +1,14 @@
 """Cloths: boards of cells with a bit for each line between them."""
 
-from sashiko.checks import all_bits, is_below, is_bit
-from sashiko.errors import BadBit, BadSize, NoCell, NoLine, NoStep
-
-MOST_LINES = 39
+from sashiko.checks import all_bits, is_below, is_bit, is_side, need_cell
+from sashiko.errors import BadBit, BadSize, NoLine, NoStep
 
 
 class Cloth:
     """A cloth by its shade and the bits of its lines; it never changes."""
 
     def __init__(self, shade, cols, rows):
-        if len(cols) > MOST_LINES or len(rows) > MOST_LINES:
+        if not (is_side(len(cols) + 1) and is_side(len(rows) + 1)):
             raise BadSize("a cloth has at most 39 lines each way")
         if not (is_bit(shade) and all_bits(cols) and all_bits(rows)):
             raise BadBit("a shade and the bits of lines are 0 or 1")
@@ -64,8 +62,7 @@ class Cloth:
 
     def colour(self, x, y):
         """The colour of a cell; NoCell."""
-        if not is_below(x, self.wide()) or not is_below(y, self.tall()):
-            raise NoCell("there is no such cell")
+        need_cell(self, x, y)
         # The walk goes right along the row 0, over steps 0, then up the column x, over steps x:
         # each of the y steps up adds x to its line's bit.
         stitches = sum(self.col_bits[:x]) + sum(self.row_bits[:y]) + x * y

@@ -12,6 +12,7 @@ REFUSALS = (
 )
 SIXTY_FIGURES = 10 ** 60 - 1
 NO_BITS = (-1, 2, 3, 10, -(10 ** 59), 10 ** 59, SIXTY_FIGURES, -SIXTY_FIGURES)
+OTHER_WAYS = ("", "Col", "ROW", "cols", "rows", "col ", " row", "x", "y", "\n", "colrow", "0", "~" * 50)
 BORDER_SIZES = ((1, 1), (1, 2), (2, 1), (2, 2), (1, 40), (40, 1), (2, 40), (40, 2), (40, 40), (39, 40), (40, 39))
 
 
@@ -24,6 +25,11 @@ def refused(test, name, call, *given):
     test.assertEqual(held, [name])
     test.assertIsInstance(error, ValueError)
     return error
+
+
+def beyond(count):
+    """Numbers that are not from 0 to below a count."""
+    return (-1, -2, -count - 1, count, count + 1, count + 40, SIXTY_FIGURES, -SIXTY_FIGURES)
 
 
 def small_parts():
@@ -49,12 +55,54 @@ def large_parts():
         yield 0, list(bits), [0] * 39
 
 
+def diamond_bits(half, first):
+    """Bits that rise and fall alike, so that round seams lie within round seams around the middle."""
+    rising = [(first + place) % 2 for place in range(half)]
+    return rising + rising[::-1]
+
+
+def nested_parts():
+    """Shades and bits of cloths with round seams within round seams, up to ten deep."""
+    for half, first in itertools.product((3, 4, 5, 8, 13, 19), (0, 1)):
+        bits = diamond_bits(half, first)
+        yield first, list(bits), list(bits)
+    pieces = diamond_bits(5, 0) + diamond_bits(6, 0) + diamond_bits(4, 1)
+    yield 0, pieces, list(pieces)
+    yield 1, pieces, diamond_bits(7, 0)
+    yield 0, diamond_bits(19, 0) + [0], [1] + diamond_bits(19, 0)
+
+
+def every_side_parts():
+    """Shades and bits of cloths of every width and height from 3 to 40."""
+    source = random.Random(41)
+    for side in range(3, 41):
+        for wide, tall in ((side, side), (side, 43 - side), (side, source.randrange(3, 41))):
+            yield source.randrange(2), mixed_bits(source, wide - 1), mixed_bits(source, tall - 1)
+
+
 def all_parts():
     return list(small_parts()) + list(large_parts())
 
 
 def all_cloths():
     return [Cloth(*parts) for parts in all_parts()]
+
+
+def told_of(cloth):
+    """The shade and bits that a cloth tells, as the triples of parts are written."""
+    return cloth.shade(), cloth.cols(), cloth.rows()
+
+
+def cells_of(cloth):
+    """All cells of a cloth, rising."""
+    return [(x, y) for x in range(cloth.wide()) for y in range(cloth.tall())]
+
+
+def cells_beyond(cloth):
+    """Cells that a cloth does not have, beside each border by one and far."""
+    last_x, last_y = cloth.wide() - 1, cloth.tall() - 1
+    found = [(x, y) for x in beyond(cloth.wide()) for y in (0, last_y, -1, cloth.tall(), SIXTY_FIGURES)]
+    return found + [(x, y) for y in beyond(cloth.tall()) for x in (0, last_x)]
 
 
 def lines_of(cols, rows):

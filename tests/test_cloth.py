@@ -4,15 +4,9 @@ import unittest
 
 from sashiko.cloth import Cloth, alike
 from samples import (
-    BORDER_SIZES, NO_BITS, SIXTY_FIGURES, all_parts, ends_of, large_parts, lines_of, refused, stitches_of,
+    BORDER_SIZES, NO_BITS, OTHER_WAYS, SIXTY_FIGURES, all_parts, beyond, ends_of, large_parts, lines_of, refused,
+    stitches_of,
 )
-
-OTHER_WAYS = ("", "Col", "ROW", "cols", "rows", "col ", " row", "x", "y", "\n", "colrow", "0", "~" * 50)
-
-
-def beyond(count):
-    """Numbers that are not from 0 to below a count."""
-    return (-1, -2, -count - 1, count, count + 1, count + 40, SIXTY_FIGURES, -SIXTY_FIGURES)
 
 
 class Making(unittest.TestCase):

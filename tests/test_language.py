@@ -74,7 +74,7 @@ class Language(unittest.TestCase):
         self.assertEqual(faults(own_sources()), [])
 
     def test_the_package_has_the_interface_files(self):
-        for name in ("__init__", "errors", "cloth", "seams"):
+        for name in ("__init__", "errors", "cloth", "seams", "within", "regions", "picture", "sew"):
             self.assertIn(f"sashiko/{name}.py", own_sources())
 
     def test_each_broken_file_is_seen(self):
