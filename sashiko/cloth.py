@@ -4,30 +4,25 @@ from sashiko.checks import all_bits, is_below, is_bit, is_side, need_cell
 from sashiko.errors import BadBit, BadSize, NoLine, NoStep
 
 
-class Cloth:
-    """A cloth by its shade and the bits of its lines; it never changes."""
+class Board:
+    """What a cloth and a ring have in common: how wide and tall it is, and lines with a bit each."""
 
-    def __init__(self, shade, cols, rows):
-        if not (is_side(len(cols) + 1) and is_side(len(rows) + 1)):
-            raise BadSize("a cloth has at most 39 lines each way")
-        if not (is_bit(shade) and all_bits(cols) and all_bits(rows)):
-            raise BadBit("a shade and the bits of lines are 0 or 1")
-        self.first_colour = shade
+    def __init__(self, wide, tall, cols, rows):
+        if not (all_bits(cols) and all_bits(rows)):
+            raise BadBit("the bits of lines are 0 or 1")
+        self.columns_count = wide
+        self.rows_count = tall
         # Tuples, so that no list handed in is kept and none that is told is our own.
         self.col_bits = tuple(cols)
         self.row_bits = tuple(rows)
 
-    def shade(self):
-        """The colour of the cell (0, 0)."""
-        return self.first_colour
-
     def wide(self):
         """How many columns of cells there are."""
-        return len(self.col_bits) + 1
+        return self.columns_count
 
     def tall(self):
         """How many rows of cells there are."""
-        return len(self.row_bits) + 1
+        return self.rows_count
 
     def cols(self):
         """The bits of the lines that go up, a list."""
@@ -59,6 +54,22 @@ class Cloth:
         if not is_below(step, steps):
             raise NoStep("the line has no step of that number")
         return (step + line_bit) % 2 == 1
+
+
+class Cloth(Board):
+    """A cloth by its shade and the bits of its lines; it never changes."""
+
+    def __init__(self, shade, cols, rows):
+        if not (is_side(len(cols) + 1) and is_side(len(rows) + 1)):
+            raise BadSize("a cloth has at most 39 lines each way")
+        if not is_bit(shade):
+            raise BadBit("a shade is 0 or 1")
+        Board.__init__(self, len(cols) + 1, len(rows) + 1, cols, rows)
+        self.first_colour = shade
+
+    def shade(self):
+        """The colour of the cell (0, 0)."""
+        return self.first_colour
 
     def colour(self, x, y):
         """The colour of a cell; NoCell."""

@@ -12,6 +12,7 @@ OWN_ERRORS = (
     "Exception ValueError TypeError KeyError IndexError LookupError ZeroDivisionError ArithmeticError "
     "OverflowError RuntimeError NotImplementedError AttributeError StopIteration"
 ).split()
+FREELY_TAKEN = ("KeyError", "ZeroDivisionError", "StopIteration")
 CALLED = (
     "len range enumerate zip min max sum abs sorted reversed int str bool list tuple dict set frozenset "
     "isinstance ord repr any all divmod"
@@ -56,7 +57,8 @@ class Checked:
     def __init__(self, path, text):
         self.path, self.text, self.tree, self.found = path, text, ast.parse(text), []
         self.above = {}
-        for node in ast.walk(self.tree):
+        self.walked = list(ast.walk(self.tree))
+        for node in self.walked:
             for child in ast.iter_child_nodes(node):
                 self.above[child] = node
 
@@ -64,7 +66,7 @@ class Checked:
         self.found.append((rule, self.path, getattr(node, "lineno", node)))
 
     def nodes(self, *kinds):
-        return [node for node in ast.walk(self.tree) if isinstance(node, kinds)]
+        return [node for node in self.walked if isinstance(node, kinds)]
 
 
 def check_path(file):
@@ -163,7 +165,8 @@ def check_statements(file):
         if isinstance(node, ast.Raise) and not isinstance(node.exc, ast.Call):
             file.fault("L19", node)
     for node in file.nodes(ast.ExceptHandler):
-        if node.type is None or ast.unparse(node.type) in ("Exception", "TypeError"):
+        taken = "" if node.type is None else ast.unparse(node.type)
+        if not taken or taken.startswith("(") or taken in set(OWN_ERRORS) - set(FREELY_TAKEN):
             file.fault("L19", node)
 
 

@@ -93,6 +93,22 @@ def told_of(cloth):
     return cloth.shade(), cloth.cols(), cloth.rows()
 
 
+def held_in(chest):
+    """The names and cloths of a chest in their order."""
+    return [(name, told_of(chest.cloth(name))) for name in chest.names()]
+
+
+def spoil_all(told):
+    """Changes each list in what was told, from within outwards."""
+    if isinstance(told, (list, tuple)):
+        for part in told:
+            spoil_all(part)
+    if isinstance(told, list):
+        told.reverse()
+        told.append(7)
+        told[0] = None
+
+
 def cells_of(cloth):
     """All cells of a cloth, rising."""
     return [(x, y) for x in range(cloth.wide()) for y in range(cloth.tall())]

@@ -47,6 +47,8 @@ BROKEN = (
     ("L18", "class A:\n    def held(self):\n        return 1\n\n    def held(self):\n        return 2\n"),
     ("L18", "class A:\n    def __init__(self):\n        self.shade = 1\n"),
     ("L19", "def f(a):\n    try:\n        return a[0]\n    except Exception:\n        return None\n"),
+    ("L19", "def f(a):\n    try:\n        return f(a)\n    except ValueError:\n        return None\n"),
+    ("L19", "def f(a):\n    try:\n        return f(a)\n    except (KeyError, ValueError):\n        return None\n"),
     ("L19", "def f(e):\n    raise e\n"),
     ("L20", "def f(a, b):\n    return a is b\n"),
     ("L21", "def f(a: int):\n    return a\n"),
@@ -74,7 +76,8 @@ class Language(unittest.TestCase):
         self.assertEqual(faults(own_sources()), [])
 
     def test_the_package_has_the_interface_files(self):
-        for name in ("__init__", "errors", "cloth", "seams", "within", "regions", "picture", "sew"):
+        named = "__init__ errors cloth seams within regions picture sew rolled finds chest notes"
+        for name in named.split():
             self.assertIn(f"sashiko/{name}.py", own_sources())
 
     def test_each_broken_file_is_seen(self):
